@@ -1,0 +1,1 @@
+"""Callsover: programs whose texts are replaced while calls are open."""

@@ -1,0 +1,154 @@
+"""The rules of the Python subset that can be seen in the files of the package."""
+
+import ast
+import builtins
+import pathlib
+import re
+import unittest
+
+PACKAGE = pathlib.Path(__file__).resolve().parent.parent / "callsover"
+FILES = sorted(PACKAGE.glob("*.py"))
+
+# L8, without what only __main__.py and bytes may use.
+BUILTINS = set(
+    "len range enumerate zip min max sum abs sorted reversed int str bool list tuple dict set isinstance ord repr "
+    "any all divmod Exception ValueError TypeError KeyError IndexError LookupError ZeroDivisionError "
+    "ArithmeticError OverflowError RuntimeError NotImplementedError AttributeError NotImplemented iter next".split()
+)
+# L25, the first list and the additional methods.
+METHODS = set(
+    "append clear copy count endswith extend find get index insert isalnum isalpha isdigit islower isspace isupper "
+    "items join keys ljust lower lstrip partition pop remove replace reverse rfind rjust rpartition rsplit rstrip "
+    "setdefault split splitlines startswith strip update upper values zfill bit_length title capitalize swapcase "
+    "casefold center expandtabs removeprefix removesuffix rindex isascii isdecimal isnumeric istitle isidentifier "
+    "isprintable translate add discard".split()
+)
+# L17, the words that do not occur anywhere.
+WORDS = (
+    "type typing typing_extensions enum Enum IntEnum StrEnum Flag IntFlag Generic Protocol ABC ABCMeta namedtuple "
+    "NamedTuple TypedDict TYPE_CHECKING abstractmethod"
+).split()
+# L6 and L7, what the program does without.
+FORBIDDEN = (
+    ast.Global, ast.AsyncFunctionDef, ast.AsyncFor, ast.AsyncWith, ast.Await, ast.Div, ast.AnnAssign, ast.Import,
+    ast.MatMult,
+)
+
+
+def named_by(tree):
+    """All names that a file binds anywhere."""
+    for node in ast.walk(tree):
+        if isinstance(node, ast.Name) and not isinstance(node.ctx, ast.Load):
+            yield node.id
+        elif isinstance(node, ast.arg):
+            yield node.arg
+        elif isinstance(node, (ast.FunctionDef, ast.ClassDef)):
+            yield node.name
+        elif isinstance(node, ast.alias):
+            yield node.asname or node.name
+        elif isinstance(node, ast.ExceptHandler) and node.name:
+            yield node.name
+
+
+class Language(unittest.TestCase):
+    def each(self):
+        for path in FILES:
+            source = path.read_text(encoding="utf-8")
+            yield path.name, source, ast.parse(source)
+
+    def test_the_folder_contains_plain_files_only(self):
+        found = [path for path in PACKAGE.iterdir() if path.name != "__pycache__"]
+        self.assertEqual(sorted(found), FILES)
+        self.assertIn("__init__.py", [path.name for path in FILES])
+        for path in FILES:
+            self.assertRegex(path.name, r"\A[a-z_0-9]+\.py\Z")
+            self.assertFalse(path.name.startswith("test"))
+
+    def test_sizes_and_characters(self):
+        for name, source, tree in self.each():
+            lines = source.split("\n")
+            self.assertLess(len(lines), 400, name)
+            for line in lines:
+                self.assertLessEqual(len(line), 120, (name, line))
+            self.assertRegex(source, r"\A[ -~\n]*\Z", name)
+            for node in ast.walk(tree):
+                if isinstance(node, ast.FunctionDef):
+                    self.assertLessEqual(node.end_lineno - node.lineno + 1, 40, (name, node.name))
+                if isinstance(node, ast.Constant) and isinstance(node.value, str):
+                    self.assertNotIn("%", node.value, name)
+
+    def test_words_that_do_not_occur(self):
+        for name, source, _ in self.each():
+            for word in re.findall(r"\w+", source):
+                self.assertNotIn(word, WORDS, name)
+                self.assertIsNone(re.search("dataclass|overload|contextmanager", word), name)
+
+    def test_imports_name_the_file_that_defines(self):
+        for name, _, tree in self.each():
+            for node in ast.walk(tree):
+                if isinstance(node, ast.ImportFrom):
+                    self.assertIn(node, tree.body, name)
+                    self.assertEqual(node.level, 0, name)
+                    self.assertRegex(node.module, r"\Acallsover\.\w+\Z", name)
+                    home = ast.parse((PACKAGE / f"{node.module.split('.')[1]}.py").read_text(encoding="utf-8"))
+                    for alias in node.names:
+                        self.assertIn(alias.name, self.defined_in(home), name)
+                        self.assertIsNone(alias.asname)
+
+    def defined_in(self, tree):
+        found = [node.name for node in tree.body if isinstance(node, (ast.FunctionDef, ast.ClassDef))]
+        return found + [node.targets[0].id for node in tree.body if isinstance(node, ast.Assign)]
+
+    def test_module_level(self):
+        for name, _, tree in self.each():
+            self.assertIsInstance(tree.body[0], ast.Expr, name)
+            for node in tree.body[1:]:
+                self.assertIsInstance(node, (ast.ImportFrom, ast.FunctionDef, ast.ClassDef, ast.Assign), name)
+            bound = self.defined_in(tree)
+            self.assertEqual(len(bound), len(set(bound)), name)
+
+    def test_statements_and_signs(self):
+        for name, _, tree in self.each():
+            for node in ast.walk(tree):
+                self.assertNotIsInstance(node, FORBIDDEN, (name, getattr(node, "lineno", 0)))
+                if isinstance(node, ast.Constant):
+                    self.assertNotIsInstance(node.value, (float, complex), name)
+                if isinstance(node, ast.Compare) and isinstance(node.ops[0], (ast.Is, ast.IsNot)):
+                    self.assertIn(node.comparators[0].value, (None, True, False), name)
+                if isinstance(node, ast.FunctionDef):
+                    self.assertEqual(node.decorator_list, [], name)
+                    self.assertEqual(node.args.posonlyargs, [], name)
+
+    def test_names(self):
+        known = set(dir(builtins))
+        for name, _, tree in self.each():
+            bound = set(named_by(tree))
+            for word in bound:
+                self.assertRegex(word, r"\A([A-Za-z][A-Za-z0-9_]*|__[a-z]+__)\Z", name)
+                self.assertNotIn(word, known, name)
+            for node in ast.walk(tree):
+                if isinstance(node, ast.Name) and isinstance(node.ctx, ast.Load) and node.id not in bound:
+                    self.assertIn(node.id, BUILTINS, name)
+
+    def test_no_local_name_is_that_of_an_import_or_a_class(self):
+        for name, _, tree in self.each():
+            taken = {node.name for node in tree.body if isinstance(node, ast.ClassDef)}
+            taken |= {a.name for node in tree.body if isinstance(node, ast.ImportFrom) for a in node.names}
+            for function in [node for node in ast.walk(tree) if isinstance(node, ast.FunctionDef)]:
+                self.assertFalse(taken & (set(named_by(function)) - {function.name}), (name, function.name))
+
+    def own_methods(self):
+        classes = [node for _, _, tree in self.each() for node in tree.body if isinstance(node, ast.ClassDef)]
+        return {node.name for made in classes for node in made.body if isinstance(node, ast.FunctionDef)}
+
+    def test_methods_of_builtin_values(self):
+        own = self.own_methods()
+        for name, _, tree in self.each():
+            for node in ast.walk(tree):
+                if isinstance(node, ast.Call) and isinstance(node.func, ast.Attribute) and node.func.attr not in own:
+                    self.assertIn(node.func.attr, METHODS, (name, node.lineno))
+                    self.assertEqual(node.keywords, [], (name, node.lineno))
+
+
+if __name__ == "__main__":
+    unittest.main()
