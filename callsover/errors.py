@@ -1,11 +1,16 @@
-"""The errors of the package, one class for each kind of failure."""
+"""The errors of the package, one class for each kind of failure.
+
+A field in which any value can come is a copy of it: the caller may change a list later.
+"""
+
+from callsover.kinds import copied
 
 
 class NoBase(ValueError):
     """The value is not a base."""
 
     def __init__(self, base):
-        self.base = base
+        self.base = copied(base)
 
 
 class NoText(ValueError):
@@ -27,14 +32,14 @@ class NoName(ValueError):
     """The value is not a name."""
 
     def __init__(self, name):
-        self.name = name
+        self.name = copied(name)
 
 
 class NoNumber(ValueError):
     """The value is not a number of the base."""
 
     def __init__(self, number):
-        self.number = number
+        self.number = copied(number)
 
 
 class NoHistory(ValueError):
@@ -52,14 +57,14 @@ class NoPart(KeyError):
     """No part of this name has a text."""
 
     def __init__(self, name):
-        self.name = name
+        self.name = copied(name)
 
 
 class NoRun(KeyError):
     """No run with this number ever began."""
 
     def __init__(self, run):
-        self.run = run
+        self.run = copied(run)
 
 
 class NoBranch(IndexError):
@@ -73,14 +78,14 @@ class NoCell(IndexError):
     """The value is not a cell."""
 
     def __init__(self, cell):
-        self.cell = cell
+        self.cell = copied(cell)
 
 
 class NoDepth(IndexError):
     """No open call of the run has this depth."""
 
     def __init__(self, depth):
-        self.depth = depth
+        self.depth = copied(depth)
 
 
 class NoAnswer(LookupError):

@@ -1,9 +1,11 @@
-"""The kinds of values of which rows are built; each test takes any value."""
+"""The kinds of values of which everything is built; each test takes any value."""
 
 VARIABLES = ("x", "y")
 SIGNS = ("+", "-", "*")
 CELLS = 2
 LONGEST_NAME = 8
+LEAST_BASE = 2
+GREATEST_BASE = 4
 
 
 def is_integer(thing):
@@ -15,6 +17,11 @@ def is_integer(thing):
 def is_below(thing, top):
     """Tell whether the thing is an integer from 0 to top - 1."""
     return is_integer(thing) and 0 <= thing < top
+
+
+def is_base(thing):
+    """Tell whether the thing is a base."""
+    return is_integer(thing) and LEAST_BASE <= thing <= GREATEST_BASE
 
 
 def is_name(thing):
@@ -46,3 +53,12 @@ def is_expression(thing, base):
     if len(thing) != 3 or thing[0] not in SIGNS:
         return False
     return is_operand(thing[1], base) and is_operand(thing[2], base)
+
+
+def copied(thing):
+    """A copy of any value that shares no list with it."""
+    if isinstance(thing, list):
+        return [copied(item) for item in thing]
+    if isinstance(thing, tuple):
+        return tuple([copied(item) for item in thing])
+    return thing

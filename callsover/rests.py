@@ -1,5 +1,6 @@
 """Rests: what a call can still do from a stand on, and which stands are alike."""
 
+from callsover.classes import classes_of
 from callsover.errors import NoBranch
 from callsover.stands import check_stand, deed_at, is_stand, targets_at, walk
 
@@ -7,11 +8,12 @@ from callsover.stands import check_stand, deed_at, is_stand, targets_at, walk
 def table_from(text, stands, base):
     """Map each stand that can be walked to from the stands to its deed and its targets."""
     table = {}
+    landed = {}
     waiting = list(stands)
     while waiting:
         here = waiting.pop()
         if here not in table:
-            targets = targets_at(text, here, base)
+            targets = targets_at(text, here, base, landed)
             table[here] = (deed_at(text, here, base), targets)
             waiting.extend(targets)
     return table
@@ -125,30 +127,6 @@ def lets_by(claim, text, stand, other_text, other_stand, *, base=3):
     if claim[0] == "apart":
         return shows_apart(claim[1], text, other_text, start, base)
     return False
-
-
-def refine(table, classes):
-    """Split the classes of stands by their deeds and by the classes that their branches lead to."""
-    numbers = {}
-    refined = {}
-    for stand in table:
-        deed, targets = table[stand]
-        mark = (classes[stand], deed, tuple([classes[target] for target in targets]))
-        if mark not in numbers:
-            numbers[mark] = len(numbers)
-        refined[stand] = numbers[mark]
-    return refined, len(numbers)
-
-
-def classes_of(table):
-    """Number the classes of alike stands of a table."""
-    classes = {stand: 0 for stand in table}
-    before, count = 0, 1
-    # A round that splits no class changes nothing, and no later one would.
-    while count > before:
-        before = count
-        classes, count = refine(table, classes)
-    return classes
 
 
 def least_table(text, stand, *, base=3):

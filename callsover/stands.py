@@ -53,16 +53,20 @@ def do_silent(text, point, base):
     return (row + 1, x, y)
 
 
-def settle(text, point, base):
-    """Execute silent rows from a point on, up to a stand."""
-    met = set()
-    while is_silent(text, point[0]):
-        # Silent rows receive nothing, so a point that comes again comes forever.
-        if point in met:
-            return MUTE
-        met.add(point)
+def settle(text, point, base, landed):
+    """Execute silent rows from a point on, up to a stand.
+
+    What is known of where points land is looked up in `landed`, a dict, and noted there.
+    """
+    passed = {}
+    while is_silent(text, point[0]) and point not in landed and point not in passed:
+        passed[point] = True
         point = do_silent(text, point, base)
-    return point
+    # Silent rows receive nothing, so a point that comes again comes forever.
+    stand = MUTE if point in passed else landed.get(point, point)
+    for before in passed:
+        landed[before] = stand
+    return stand
 
 
 def is_stand(text, thing, base):
@@ -103,7 +107,7 @@ def deed_at(text, stand, base):
 
 def first_stand(text, argument, *, base=3):
     """The stand at which a call with the argument begins."""
-    return settle(text, (0, argument, 0), base)
+    return settle(text, (0, argument, 0), base, {})
 
 
 def stands_of(text, *, base=3):
@@ -127,20 +131,20 @@ def branch_count(deed, *, base=3):
     return 0
 
 
-def go_on(text, stand, branch, base):
-    """The stand to which a branch leads from a stand that has it."""
+def go_on(text, stand, branch, base, landed):
+    """The stand to which a branch leads from a stand that has it; `landed` is as in settle."""
     row, x, y = stand
     line = text[row]
     if line[0] in RECEIVING:
         # The variable is the last item of each row that receives a number.
-        return settle(text, assign(line[-1], branch, stand), base)
-    return settle(text, (row + 1, x, y), base)
+        return settle(text, assign(line[-1], branch, stand), base, landed)
+    return settle(text, (row + 1, x, y), base, landed)
 
 
-def targets_at(text, stand, base):
-    """The stands to which the branches lead from a stand that is known to be one."""
+def targets_at(text, stand, base, landed):
+    """The stands to which the branches lead from a stand that is known to be one; `landed` is as in settle."""
     count = branch_count(deed_at(text, stand, base), base=base)
-    return tuple([go_on(text, stand, branch, base) for branch in range(count)])
+    return tuple([go_on(text, stand, branch, base, landed) for branch in range(count)])
 
 
 def walk(text, stand, path, *, base=3):
@@ -149,10 +153,11 @@ def walk(text, stand, path, *, base=3):
     stands = [stand]
     # A long path comes to the same stands again and again.
     known = {}
+    landed = {}
     for at, branch in enumerate(path):
         here = stands[-1]
         if here not in known:
-            known[here] = targets_at(text, here, base)
+            known[here] = targets_at(text, here, base, landed)
         if not is_below(branch, len(known[here])):
             raise NoBranch(at)
         stands.append(known[here][branch])

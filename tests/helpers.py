@@ -89,6 +89,17 @@ def some_texts(count, base, most=6, seed=0):
     return [some_text(source, base, source.randint(0, most)) for _ in range(count)]
 
 
+def with_idle_rows(text):
+    """A text that does the same: an idle row ahead of each row, and a dead row at the end."""
+    rows = []
+    for at, row in enumerate(text):
+        rows.append(("go", 2 * at + 1))
+        if row[0] in ("go", "if"):
+            row = row[:-1] + (2 * row[-1],)
+        rows.append(row)
+    return tuple(rows) + (("end", 0), ("say", 1))
+
+
 # The slow second way: everything straight from the words of the document.
 
 def slow_value(expression, x, y, base):
@@ -197,3 +208,25 @@ def slow_parting(text, stand, other_text, other_stand, base, longest):
             if slow_deed(text, one, base) != slow_deed(other_text, other, base):
                 return list(path)
     return None
+
+
+def snapshot(house):
+    """All that can be asked of a house."""
+    runs = house.runs()
+    calls = [(run, depth) for run in runs for depth in range(1, house.height(run) + 1)]
+    began = len([deed for deed in house.history() if deed[0] == "begin"])
+    return (
+        house.history(), house.names(), [house.text(name) for name in house.names()], house.cells(), runs,
+        [(house.deed(run), house.height(run), house.standing(run)) for run in runs], house.kept(),
+        [(house.result(run), house.tape(run)) for run in range(began)],
+        [(house.results(*call), house.latest(*call), house.ring(*call)) for call in calls],
+        str(house), repr(house), len(house),
+    )
+
+
+class HouseCase(Case):
+    def assert_unchanged(self, house, error, fields, method, *args, **more):
+        """The method raises the error, and nothing has changed."""
+        before = snapshot(house)
+        self.assert_raises(error, fields, getattr(house, method), *args, **more)
+        self.assert_same(snapshot(house), before, (method, args, more))

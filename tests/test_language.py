@@ -28,6 +28,12 @@ WORDS = (
     "type typing typing_extensions enum Enum IntEnum StrEnum Flag IntFlag Generic Protocol ABC ABCMeta namedtuple "
     "NamedTuple TypedDict TYPE_CHECKING abstractmethod"
 ).split()
+# L26, what no attribute is called, and L17, what nothing is called.
+NOT_ATTRIBUTES = set(
+    "items keys values pop update append clear extend insert remove reverse setdefault sort args encode decode hex "
+    "fromhex format".split()
+)
+BARRED = set("register mro elements open input law version_info with_traceback add_note".split())
 # L6 and L7, what the program does without.
 FORBIDDEN = (
     ast.Global, ast.AsyncFunctionDef, ast.AsyncFor, ast.AsyncWith, ast.Await, ast.Div, ast.AnnAssign, ast.Import,
@@ -148,6 +154,93 @@ class Language(unittest.TestCase):
                 if isinstance(node, ast.Call) and isinstance(node.func, ast.Attribute) and node.func.attr not in own:
                     self.assertIn(node.func.attr, METHODS, (name, node.lineno))
                     self.assertEqual(node.keywords, [], (name, node.lineno))
+
+    def classes(self):
+        return [node for _, _, tree in self.each() for node in tree.body if isinstance(node, ast.ClassDef)]
+
+    def test_no_name_is_a_method_and_an_attribute(self):
+        stored, read = set(), set()
+        for _, _, tree in self.each():
+            for node in ast.walk(tree):
+                if isinstance(node, ast.Attribute):
+                    (read if isinstance(node.ctx, ast.Load) else stored).add(node.attr)
+        own = self.own_methods()
+        self.assertFalse(stored & own)
+        self.assertFalse(stored & NOT_ATTRIBUTES)
+        self.assertFalse((stored | own) & BARRED)
+        self.assertFalse(read - stored - own - METHODS)
+
+    def test_attributes_are_assigned_through_self_or_a_local_name(self):
+        for name, _, tree in self.each():
+            for node in ast.walk(tree):
+                if isinstance(node, ast.Attribute) and not isinstance(node.ctx, ast.Load):
+                    self.assertIsInstance(node.value, ast.Name, (name, node.lineno))
+
+    def test_double_underscore_methods(self):
+        for made in self.classes():
+            for node in made.body:
+                if not isinstance(node, ast.FunctionDef) or not node.name.startswith("__"):
+                    continue
+                self.assertIn(node.name, ("__init__", "__eq__", "__repr__", "__str__", "__len__"))
+                if node.name == "__init__":
+                    continue
+                for inner in ast.walk(node):
+                    self.assertNotIsInstance(inner, (ast.Assign, ast.AugAssign, ast.Delete), node.name)
+                self.assertIsInstance(node.body[-1], ast.Return)
+
+    def test_what_stands_beside_an_own_equality(self):
+        takes_lists = ("any", "all", "min", "max", "sum", "sorted")
+        for name, _, tree in self.each():
+            for node in ast.walk(tree):
+                self.assertNotIsInstance(node, (ast.Match, ast.Yield, ast.YieldFrom), name)
+                if isinstance(node, ast.Call) and isinstance(node.func, ast.Name) and node.func.id in takes_lists:
+                    for argument in node.args:
+                        self.assertNotIsInstance(argument, ast.GeneratorExp, (name, node.lineno))
+                if isinstance(node, ast.Call) and isinstance(node.func, ast.Attribute):
+                    self.assertNotEqual(node.func.attr, "sort", (name, node.lineno))
+
+    def test_caught_errors_are_own_errors(self):
+        own = {made.name for made in self.classes()}
+        for name, _, tree in self.each():
+            for node in ast.walk(tree):
+                if isinstance(node, ast.ExceptHandler):
+                    caught = node.type.elts if isinstance(node.type, ast.Tuple) else [node.type]
+                    self.assertTrue({error.id for error in caught} <= own, (name, node.lineno))
+                if isinstance(node, ast.Raise):
+                    self.assertIsInstance(node.exc, ast.Call, (name, node.lineno))
+                    self.assertIn(node.exc.func.id, own, (name, node.lineno))
+
+    def test_what_is_iterated_at_once_is_not_stored(self):
+        for name, _, tree in self.each():
+            for node in ast.walk(tree):
+                if isinstance(node, (ast.Assign, ast.Return)) and isinstance(node.value, ast.Call):
+                    function = node.value.func
+                    called = function.id if isinstance(function, ast.Name) else function.attr
+                    self.assertNotIn(called, ("zip", "enumerate", "range", "reversed", "items", "keys", "values"),
+                                     (name, node.lineno))
+
+    def test_no_file_imports_itself_through_others(self):
+        imports = {}
+        for name, _, tree in self.each():
+            found = [node.module.split(".")[1] + ".py" for node in tree.body if isinstance(node, ast.ImportFrom)]
+            imports[name] = set(found)
+        for _ in imports:
+            imports = {name: found.union(*[imports[other] for other in found]) for name, found in imports.items()}
+        for name, found in imports.items():
+            self.assertNotIn(name, found)
+
+    def test_module_level_tables_are_only_read(self):
+        for name, _, tree in self.each():
+            tables = {node.targets[0].id for node in tree.body if isinstance(node, ast.Assign)
+                      and isinstance(node.value, (ast.Dict, ast.List))}
+            for node in ast.walk(tree):
+                if isinstance(node, ast.Call):
+                    for argument in node.args:
+                        self.assertFalse(isinstance(argument, ast.Name) and argument.id in tables, (name, node.lineno))
+                if isinstance(node, ast.Subscript) and isinstance(node.value, ast.Name) and node.value.id in tables:
+                    self.assertIsInstance(node.ctx, ast.Load, (name, node.lineno))
+                if isinstance(node, ast.Call) and isinstance(node.func, ast.Subscript):
+                    self.fail((name, node.lineno))
 
 
 if __name__ == "__main__":

@@ -9,6 +9,7 @@ from callsover.rests import least_table, lets_by, paper, parting
 from callsover.stands import MUTE, stands_of
 from tests.helpers import (
     BASES, ODD_VALUES, Case, same, slow_classes, slow_deed, slow_parting, slow_reach, slow_targets, some_texts,
+    with_idle_rows,
 )
 from tests.test_stands import TEXTS, no_stands
 
@@ -17,17 +18,6 @@ G = (("ask", "x"), ("say", 0))
 # Both ask and say what they received, forever; the second in rounds that are twice as long.
 LOOP = (("ask", "x"), ("say", "x"), ("go", 0))
 LONG_LOOP = (("ask", "y"), ("say", "y"), ("ask", "x"), ("say", "x"), ("go", 0))
-
-
-def with_idle_rows(text):
-    """A text that does the same: an idle row ahead of each row, and a dead row at the end."""
-    rows = []
-    for at, row in enumerate(text):
-        rows.append(("go", 2 * at + 1))
-        if row[0] in ("go", "if"):
-            row = row[:-1] + (2 * row[-1],)
-        rows.append(row)
-    return tuple(rows) + (("end", 0), ("say", 1))
 
 
 def pairs_of_stands(base, texts=30, seed=1):

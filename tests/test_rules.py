@@ -4,7 +4,7 @@ import copy
 import inspect
 import unittest
 
-from callsover import rests, stands, texts
+from callsover import alike, desk, house, rests, shown, stands, texts
 from tests.helpers import BASES, Case, some_texts
 
 NEEDED = inspect.Parameter.empty
@@ -25,6 +25,56 @@ INTERFACE = (
     (rests, "least_table", ("text", "stand"), {"base": 3}),
 )
 
+# The same for what takes houses, and for what is made of a history.
+HOUSES = (
+    (house, "house_of", ("history",), {"base": 3}),
+    (alike, "view", ("house",), {}),
+    (alike, "are_alike", ("one", "other"), {}),
+    (alike, "apart", ("one", "other"), {}),
+    (shown, "show_deed", ("deed",), {}),
+    (shown, "show_place", ("place",), {}),
+    (shown, "show_class", ("entry",), {}),
+)
+
+# (method, parameters by position or name with their defaults, parameters by name only with theirs)
+METHODS = {
+    house.House: (
+        ("__init__", {}, {"base": 3}),
+        ("tell", {"name": NEEDED, "text": NEEDED}, {}),
+        ("drop", {"name": NEEDED}, {}),
+        ("begin", {"name": NEEDED, "argument": 0}, {}),
+        ("step", {"run": NEEDED}, {"answer": None}),
+        ("stop", {"run": NEEDED}, {}),
+        ("put", {"cell": NEEDED, "value": NEEDED}, {}),
+        ("deed", {"run": NEEDED}, {}),
+        ("height", {"run": NEEDED}, {}),
+        ("result", {"run": NEEDED}, {}),
+        ("tape", {"run": NEEDED}, {}),
+        ("names", {}, {}),
+        ("runs", {}, {}),
+        ("cells", {}, {}),
+        ("text", {"name": NEEDED}, {}),
+        ("history", {}, {}),
+        ("standing", {"run": NEEDED}, {}),
+        ("kept", {}, {}),
+        ("results", {"run": NEEDED, "depth": NEEDED}, {}),
+        ("latest", {"run": NEEDED, "depth": NEEDED}, {}),
+        ("ring", {"run": NEEDED, "depth": NEEDED}, {}),
+        ("preview", {"name": NEEDED, "text": NEEDED}, {}),
+        ("play", {"history": NEEDED}, {}),
+        ("twin", {}, {}),
+        ("__eq__", {"other": NEEDED}, {}),
+        ("__len__", {}, {}),
+        ("__str__", {}, {}),
+        ("__repr__", {}, {}),
+    ),
+    desk.Desk: (
+        ("__init__", {}, {"base": 3}),
+        ("say", {"command": NEEDED}, {}),
+        ("house", {}, {}),
+    ),
+}
+
 TEXT = (("ask", "x"), ("if", "x", 0, 3), ("say", ("+", "x", 1)))
 OTHER = (("ask", "x"), ("if", "x", 0, 3), ("say", ("+", 1, "x")))
 
@@ -37,7 +87,7 @@ VALUES = {
 
 class Interface(Case):
     def test_each_name_with_its_parameters(self):
-        for module, name, plain, by_name in INTERFACE:
+        for module, name, plain, by_name in INTERFACE + HOUSES:
             found = inspect.signature(getattr(module, name)).parameters
             self.assertEqual(list(found), list(plain) + list(by_name), name)
             for parameter in plain:
@@ -48,10 +98,43 @@ class Interface(Case):
                 self.assert_same(found[parameter].default, default)
 
     def test_each_is_defined_where_it_is_listed(self):
-        for module, name, _, _ in INTERFACE:
+        for module, name, _, _ in INTERFACE + HOUSES:
             function = getattr(module, name)
             self.assertTrue(inspect.isfunction(function))
             self.assertEqual((function.__module__, function.__name__), (module.__name__, name))
+        self.assertEqual(house.House.__module__, "callsover.house")
+        self.assertEqual(desk.Desk.__module__, "callsover.desk")
+
+    def test_each_method_stands_in_its_class(self):
+        for made, methods in METHODS.items():
+            for name, plain, by_name in methods:
+                self.assertIn(name, vars(made))
+                self.assertTrue(inspect.isfunction(vars(made)[name]))
+                first, *found = inspect.signature(vars(made)[name]).parameters.values()
+                wanted = [(p, inspect.Parameter.POSITIONAL_OR_KEYWORD, d) for p, d in plain.items()]
+                wanted += [(p, inspect.Parameter.KEYWORD_ONLY, d) for p, d in by_name.items()]
+                self.assertEqual([(p.name, p.kind, p.default) for p in found], wanted, name)
+
+    def test_methods_by_position_and_by_name(self):
+        rows = (("ask", "x"), ("say", "x"))
+        one, other = house.House(base=3), house.House()
+        for method, values in (
+            ("tell", {"name": "f", "text": rows}), ("begin", {"name": "f", "argument": 1}), ("begin", {"name": "f"}),
+            ("step", {"run": 0, "answer": 2}), ("put", {"cell": 1, "value": 2}), ("stop", {"run": 1}),
+            ("deed", {"run": 0}), ("height", {"run": 0}), ("result", {"run": 1}), ("tape", {"run": 0}),
+            ("text", {"name": "f"}), ("standing", {"run": 0}), ("results", {"run": 0, "depth": 1}),
+            ("latest", {"run": 0, "depth": 1}), ("ring", {"run": 0, "depth": 1}), ("preview", {"name": "f", "text": ()}),
+            ("play", {"history": [("put", 0, 1)]}), ("drop", {"name": "f"}), ("history", {}),
+        ):
+            by_position = [value for name, value in values.items() if name != "answer"]
+            more = {"answer": values["answer"]} if "answer" in values else {}
+            self.assert_same(getattr(one, method)(**values), getattr(other, method)(*by_position, **more), method)
+        self.assertRaises(TypeError, one.step, 0, None)
+        self.assertRaises(TypeError, house.House, 3)
+        self.assertRaises(TypeError, desk.Desk, 3)
+        self.assertRaises(TypeError, house.house_of, [], 3)
+        self.assert_same(alike.apart(one=one, other=other), alike.apart(one, other))
+        self.assert_same(alike.are_alike(other=other, one=one), True)
 
     def test_by_position_and_by_name(self):
         for module, name, plain, by_name in INTERFACE:
