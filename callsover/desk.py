@@ -62,9 +62,12 @@ def read_item(word, kind, base):
 def read_command(command, base):
     """Read any value as a command: its first word, and the list of what follows."""
     # A line feed stands between rows for read_text, but never in a command.
-    if not isinstance(command, str) or "\n" in command or "" in command.split(" "):
+    if not isinstance(command, str) or "\n" in command:
         raise NoCommand()
     words = command.split(" ")
+    if "" in words:
+        raise NoCommand()
+    # The rows of a text are all that follows its name.
     if words[0] == "tell":
         words = command.split(" ", 2)
     form = FORMS.get(words[0])

@@ -66,6 +66,18 @@ class Latest(HouseCase):
                       ("begin", "f", 0), ("step", 0, None), ("drop", "f")])
         self.assert_same((h.latest(0, 1), h.ring(0, 1), h.latest(0, 2)), (None, (0, (), (0,)), 1))
 
+    def test_the_result_of_a_ring_can_come_and_never_ends(self):
+        for base in BASES:
+            # Of the call above, 1 and, in greater bases, 2 can come; only behind the last of these is a ring.
+            last = base - 1 if base < 3 else 2
+            text = (("call", "g", 0, "x"), ("if", "x", last, 3), ("end", 1), ("say", 0), ("write", 0, 1), ("go", 3))
+            above = (("ask", "x"), ("if", "x", 0, 3), ("end", 1), ("end", last))
+            h = house_of([("tell", "f", text), ("tell", "g", above), ("begin", "f", 0), ("step", 0, None), ("drop", "f")],
+                         base=base)
+            self.assert_same(h.standing(0)[0][1][0], None)
+            self.assert_same((h.latest(0, 1), h.ring(0, 1)), (None, (last, (), (0, 0))))
+            self.assert_same((h.latest(0, 2), h.ring(0, 2)), (0, None))
+
     def test_never(self):
         for base in BASES:
             h = house_of([("tell", "f", LOOP), ("begin", "f", 0), ("drop", "f")], base=base)
