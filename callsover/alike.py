@@ -1,8 +1,6 @@
 """Alike houses: what can be seen of a house, and what tells two houses apart."""
 
-from callsover.grounds import Ground
 from callsover.rests import meet_pairs, path_to
-from callsover.stands import first_stand
 
 
 def view_of_run(track, base):
@@ -18,56 +16,59 @@ def view(house):
     return (house.base, tuple(house.names()), house.cells(), tuple(entries))
 
 
-def first_calls(house):
-    """The calls with which parts can begin, each as (deed that begins it, call)."""
-    found = []
-    for name in house.names():
-        text = house.text(name)
-        for argument in range(house.base):
-            call = (text, first_stand(text, argument, base=house.base))
-            found.append((("begin", name, argument), call))
-    return found
+def changed_parts(one, other):
+    """The names of the parts that have different texts in two houses with equal views."""
+    return [name for name in one.names() if one.text(name) != other.text(name)]
 
 
-def common_ground(one, other):
-    """The ground of two houses of the same base."""
-    calls = []
+def changed_runs(one, other):
+    """The open runs with different calls in two houses with equal views."""
+    return [run for run in one.runs() if one.tracks[run].calls != other.tracks[run].calls]
+
+
+def common_lore(one, other):
+    """A lore that knows all texts in which two houses with equal views differ."""
+    texts = []
     for house in (one, other):
-        calls.extend([call for deed, call in first_calls(house)])
-        calls.extend([call for track in house.tracks for call in track.calls])
-    return Ground(calls, one.base)
+        texts.extend([house.text(name) for name in changed_parts(one, other)])
+        for run in changed_runs(one, other):
+            texts.extend([text for text, stand in house.tracks[run].calls])
+    return one.learned(texts)
 
 
-def part_pairs(one, other, ground):
-    """Where calls of each part begin, as (deed that begins it, spot, other spot)."""
+def part_pairs(one, other, lore):
+    """Where calls of changed parts begin, as (deed that begins one, class, other class)."""
     found = []
-    for (deed, call), (other_deed, other_call) in zip(first_calls(one), first_calls(other)):
-        found.append((deed, ground.spot(call), ground.spot(other_call)))
+    for name in changed_parts(one, other):
+        for argument in range(one.base):
+            number = lore.first_class_of(one.text(name), argument)
+            other_number = lore.first_class_of(other.text(name), argument)
+            found.append((("begin", name, argument), number, other_number))
     return found
 
 
-def run_pairs(run, one, other, ground):
-    """Where the open calls of a run go on, as (("run", run, depth, result), spot, other spot).
+def run_pairs(run, one, other, lore):
+    """Where the open calls of a run go on, as (("run", run, depth, result), class, other class).
 
     The higher calls come first: what can come of them is the same for both houses only if they are alike.
     """
-    outlook = ground.outlook(one.tracks[run].calls)
-    other_outlook = ground.outlook(other.tracks[run].calls)
+    outlook = lore.outlook(one.tracks[run].calls)
+    other_outlook = lore.outlook(other.tracks[run].calls)
     found = []
     for at in range(len(outlook) - 1, -1, -1):
-        for result, (spot, other_spot) in enumerate(zip(outlook[at][0], other_outlook[at][0])):
-            if spot is not None and other_spot is not None:
-                found.append((("run", run, at + 1, result), spot, other_spot))
+        for result, (number, other_number) in enumerate(zip(outlook[at][0], other_outlook[at][0])):
+            if number is not None and other_number is not None:
+                found.append((("run", run, at + 1, result), number, other_number))
     return found
 
 
-def parted_pair(one, other, ground):
+def parted_pair(one, other, lore):
     """The first pair that is not alike, of two houses with equal views; None if they are alike."""
-    pairs = part_pairs(one, other, ground)
-    for run in one.runs():
-        pairs.extend(run_pairs(run, one, other, ground))
+    pairs = part_pairs(one, other, lore)
+    for run in changed_runs(one, other):
+        pairs.extend(run_pairs(run, one, other, lore))
     for pair in pairs:
-        if ground.classes[pair[1]] != ground.classes[pair[2]]:
+        if pair[1] != pair[2]:
             return pair
     return None
 
@@ -76,7 +77,7 @@ def are_alike(one, other):
     """Tell whether two houses are alike."""
     if view(one) != view(other):
         return False
-    return parted_pair(one, other, common_ground(one, other)) is None
+    return parted_pair(one, other, common_lore(one, other)) is None
 
 
 def deeds_for(deed, branch, run):
@@ -132,13 +133,13 @@ def way_to_end(table, entries, result):
     return None
 
 
-def deeds_down(ground, outlook, run, depth, result):
+def deeds_down(lore, stack, run, depth, result):
     """Deeds of a history after which the call at the depth goes on with the result."""
     found = []
-    for entries, results in outlook[depth:]:
-        number, path = way_to_end(ground.table, entries, result)
+    for entries, results in lore.outlook(stack)[depth:]:
+        number, path = way_to_end(lore.table, entries, result)
         # A call ends before the one below it goes on, so what is found for it comes ahead.
-        found = deeds_along(ground.table, entries[number], path, run) + [("step", run, None)] + found
+        found = deeds_along(lore.table, entries[number], path, run) + [("step", run, None)] + found
         result = number
     return found
 
@@ -147,15 +148,15 @@ def apart(one, other):
     """A history that tells two houses apart, or None if they are alike."""
     if view(one) != view(other):
         return []
-    ground = common_ground(one, other)
-    pair = parted_pair(one, other, ground)
+    lore = common_lore(one, other)
+    pair = parted_pair(one, other, lore)
     if pair is None:
         return None
-    way, spot, other_spot = pair
-    ahead, last = meet_pairs(ground.table, spot, ground.table, other_spot)
+    way, number, other_number = pair
+    ahead, last = meet_pairs(lore.table, number, lore.table, other_number)
     path = path_to(ahead, last)
     if way[0] == "begin":
-        return [way] + deeds_along(ground.table, spot, path, len(one.tracks))
+        return [way] + deeds_along(lore.table, number, path, len(one.tracks))
     word, run, depth, result = way
-    lead = deeds_down(ground, ground.outlook(one.tracks[run].calls), run, depth, result)
-    return lead + deeds_along(ground.table, spot, path, run)
+    lead = deeds_down(lore, one.tracks[run].calls, run, depth, result)
+    return lead + deeds_along(lore.table, number, path, run)

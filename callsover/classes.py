@@ -82,13 +82,19 @@ class Splitting:
         return states
 
 
+def split_classes(deeds, targets):
+    """For each state the number of its class: states are alike by their deeds and where their branches lead."""
+    splitting = Splitting(deeds, targets)
+    moved = list(range(len(deeds)))
+    while moved:
+        moved = splitting.divide(moved)
+    return splitting.classes
+
+
 def classes_of(table):
     """Number the classes of alike stands of a table: equal numbers for alike stands."""
     numbers = {stand: number for number, stand in enumerate(table)}
     deeds = [deed for deed, targets in table.values()]
     reached = [tuple([numbers[target] for target in targets]) for deed, targets in table.values()]
-    splitting = Splitting(deeds, reached)
-    moved = list(numbers.values())
-    while moved:
-        moved = splitting.divide(moved)
-    return {stand: splitting.classes[number] for stand, number in numbers.items()}
+    classes = split_classes(deeds, reached)
+    return {stand: classes[number] for stand, number in numbers.items()}

@@ -1,6 +1,6 @@
 """Houses: parts with texts, cells, and runs of calls."""
 
-from callsover.ahead import latest_of, ring_of
+from callsover.ahead import entries_latest, ring_of
 from callsover.alike import are_alike
 from callsover.errors import (
     NoAnswer, NoBase, NoCell, NoDepth, NoHistory, NoName, NoNumber, NoPart, NoRows, NoRun, NotAsked, Over,
@@ -28,8 +28,8 @@ class House:
         # All runs that ever began, by their numbers.
         self.tracks = []
         self.deeds = []
-        # What was found out about places since the last change; None if nothing was.
-        self.surveyed = None
+        # What was found out about places, None if nothing was.
+        self.survey = None
 
     def tell(self, name, text):
         """Give a part a text, or replace its text."""
@@ -62,9 +62,10 @@ class House:
             self.check_number(answer)
         elif answer is not None:
             raise NotAsked(run)
-        depth = self.height(run)
-        event = self.do_deed(self.tracks[run], deed, answer)
-        self.tracks[run].events.append((depth, event))
+        track = self.tracks[run]
+        depth = len(track.calls)
+        event = self.do_deed(track, deed, answer)
+        track.events.append((depth, event))
         self.note(("step", run, answer))
         return event
 
@@ -129,45 +130,50 @@ class House:
     def standing(self, run):
         """The places of the open calls of a run, from the lowest to the top."""
         self.check_open(run)
-        return list(self.survey().places[run])
+        return list(self.surveyed().found_places()[run])
 
     def kept(self):
         """The kept classes."""
-        return list(self.survey().entries)
+        return list(self.surveyed().found_entries())
 
     def results(self, run, depth):
         """The results that can come of an open call, ascending."""
         self.check_depth(run, depth)
-        return list(self.survey().coming[run][depth - 1])
+        entries, results = self.surveyed().outlooks[run][depth - 1]
+        return list(results)
 
     def latest(self, run, depth):
         """The latest of the place of an open call, None if it can take any length."""
         self.check_depth(run, depth)
-        survey = self.survey()
-        return latest_of(survey.places[run][depth - 1], survey.latests)
+        survey = self.surveyed()
+        entries, results = survey.outlooks[run][depth - 1]
+        return entries_latest(entries, survey.newest)
 
     def ring(self, run, depth):
         """What shows that the latest of an open call is None; None if it is an integer."""
         self.check_depth(run, depth)
-        survey = self.survey()
-        return ring_of(survey.places[run][depth - 1], survey.entries, survey.latests)
+        survey = self.surveyed()
+        entries, results = survey.outlooks[run][depth - 1]
+        return ring_of(entries, depth == self.height(run), survey.newest)
 
     def preview(self, name, text):
         """The latest of each open call, as it would be if the part were given the text."""
         self.check_telling(name, text)
-        survey = Survey({**self.parts, name: text}, self.stacks(), self.base)
+        survey = self.surveyed()
+        newest = survey.preview_of(name, text)
         found = []
-        for run in self.runs():
-            for at, place in enumerate(survey.places[run]):
-                found.append((run, at + 1, latest_of(place, survey.latests)))
+        for run in survey.outlooks:
+            for at, (entries, results) in enumerate(survey.outlooks[run]):
+                found.append((run, at + 1, entries_latest(entries, newest)))
         return found
 
     def play(self, history):
         """Do the deeds of a history; returns what the methods return."""
         if not isinstance(history, list):
             raise NoHistory(0)
-        # What fails half-way must leave no trace, so it is tried on a twin.
-        trial = self.twin()
+        # What fails half-way must leave no trace, so it is tried on another house.
+        trial = House(base=self.base)
+        trial.become(self)
         returned = []
         for at, entry in enumerate(history):
             if not is_entry(entry):
@@ -176,13 +182,15 @@ class House:
                 returned.append(do_entry(trial, entry))
             except (NoName, NoRows, NoPart, NoNumber, NoRun, Over, NoAnswer, NotAsked, NoCell):
                 raise NoHistory(at) from None
-        self.become(trial)
+        self.take_over(trial)
         return returned
 
     def twin(self):
         """A house with the same state and history, independent of this one."""
         other = House(base=self.base)
         other.become(self)
+        if self.survey is not None:
+            other.survey = self.survey.twin_survey()
         return other
 
     def __eq__(self, other):
@@ -234,9 +242,8 @@ class House:
             raise NoDepth(depth)
 
     def note(self, entry):
-        """Add a deed that was done to the history; what was found out about places is outdated."""
+        """Add a deed that was done to the history."""
         self.deeds.append(entry)
-        self.surveyed = None
 
     def do_deed(self, track, deed, answer):
         """Do the deed of the top call of a run; returns the event."""
@@ -259,23 +266,40 @@ class House:
             self.memory[deed[1]] = deed[2]
         return deed
 
-    def stacks(self):
-        """The open calls of each open run."""
-        return {run: self.tracks[run].calls for run in self.runs()}
+    def some_survey(self):
+        """A survey of the house; it may have looked at it earlier, or not at all."""
+        if self.survey is None or self.survey.is_full():
+            self.survey = Survey(self.base)
+        return self.survey
 
-    def survey(self):
-        """The places of the open calls and what belongs to them."""
-        if self.surveyed is None:
-            self.surveyed = Survey(self.parts, self.stacks(), self.base)
-        return self.surveyed
+    def surveyed(self):
+        """A survey that has looked at the house as it is now."""
+        survey = self.some_survey()
+        # Nothing changes without a deed, so the number of deeds shows whether something has changed.
+        if survey.deeds_seen != len(self.deeds):
+            survey.look(self.parts, {run: self.tracks[run].calls for run in self.runs()})
+            survey.deeds_seen = len(self.deeds)
+        return survey
+
+    def learned(self, texts):
+        """The classes of alike stands, those of the texts among them."""
+        lore = self.some_survey().lore
+        lore.learn(texts)
+        return lore
 
     def become(self, other):
-        """Take over the state and the history of another house of the same base."""
+        """Have the state and the history of another house of the same base."""
         self.parts = dict(other.parts)
         self.memory = list(other.memory)
         self.tracks = [track.twin_run() for track in other.tracks]
         self.deeds = list(other.deeds)
-        self.surveyed = None
+
+    def take_over(self, other):
+        """Have the state and the history of a house that nobody else has; it is not used again."""
+        self.parts = other.parts
+        self.memory = other.memory
+        self.tracks = other.tracks
+        self.deeds = other.deeds
 
 
 def is_entry(thing):

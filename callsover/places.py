@@ -1,43 +1,31 @@
 """Places: where open calls stand beside the newest texts, and what is kept for them."""
 
-from callsover.ahead import latests_of
-from callsover.grounds import Ground
-from callsover.stands import stands_of
+from callsover.lore import Lore
+from callsover.newest import Newest
+
+# More texts than two houses can need at a time, and more previews than are asked for in turn.
+MOST_TEXTS = 256
+MOST_PREVIEWS = 16
 
 
-class Survey:
-    """The places of all open calls, the kept classes, and the results that can come."""
+class Numbering:
+    """The numbers of kept classes, in the order in which they are met."""
 
-    def __init__(self, newest, stacks, base):
-        spread = newest_calls(newest, base)
-        open_calls = [call for stack in stacks.values() for call in stack]
-        self.ground = Ground([call for place, call in spread] + open_calls, base)
-        # By classes of alike stands: the least newest stand, and the number among the kept classes.
-        self.new_places = {}
-        for place, call in spread:
-            self.new_places.setdefault(self.ground.classes[self.ground.spot(call)], place)
-        self.kept_numbers = {}
-        self.kept_spots = []
-        self.places = {}
-        self.coming = {}
-        for run in stacks:
-            outlook = self.ground.outlook(stacks[run])
-            self.places[run] = self.places_of(outlook)
-            self.coming[run] = [results for entries, results in outlook]
-        self.entries = self.kept_entries()
-        self.latests = latests_of(self.entries)
+    def __init__(self, newest):
+        self.newest = newest
+        self.order = []
+        # By classes, the places that were met.
+        self.shown = {}
 
-    def place_at(self, spot):
-        """The place of the stand at a spot; a class that is met for the first time is numbered."""
-        if self.ground.table[spot][0] == ("mute",):
-            return ("mute",)
-        group = self.ground.classes[spot]
-        if group in self.new_places:
-            return self.new_places[group]
-        if group not in self.kept_numbers:
-            self.kept_numbers[group] = len(self.kept_spots)
-            self.kept_spots.append(spot)
-        return ("kept", self.kept_numbers[group])
+    def place_at(self, number):
+        """The place of a class; a kept one that is met for the first time is numbered."""
+        if number not in self.shown:
+            place = self.newest.place_of(number)
+            if place is None:
+                place = ("kept", len(self.order))
+                self.order.append(number)
+            self.shown[number] = place
+        return self.shown[number]
 
     def places_of(self, outlook):
         """The places of the calls of a stack, from the lowest on."""
@@ -53,17 +41,91 @@ class Survey:
     def kept_entries(self):
         """The kept classes, those met so far and those that they lead to."""
         entries = []
-        while len(entries) < len(self.kept_spots):
-            deed, targets = self.ground.table[self.kept_spots[len(entries)]]
+        while len(entries) < len(self.order):
+            deed, targets = self.newest.lore.table[self.order[len(entries)]]
             entries.append((deed, tuple([self.place_at(target) for target in targets])))
         return entries
 
 
-def newest_calls(newest, base):
-    """The newest stands, ascending, each as (place, call)."""
-    found = []
-    for name in sorted(newest):
-        text = newest[name]
-        for stand in stands_of(text, base=base):
-            found.append((("new", name, *stand), (text, stand)))
-    return found
+class Survey:
+    """What was found out about the places in a house.
+
+    What it looked at is noted, so that only what has changed is looked at anew.
+    """
+
+    def __init__(self, base):
+        self.lore = Lore(base)
+        # The number of deeds that the house had done when it was looked at, None if it was not.
+        self.deeds_seen = None
+        self.newest = None
+        # By (name, text): what would be known of the newest texts with this one.
+        self.previews = {}
+        # By open runs: the calls from the lowest to the top, and where they go on.
+        self.stacks = {}
+        self.outlooks = {}
+        # What follows from the newest texts and the stacks, as far as it was asked for.
+        self.numbering = None
+        self.places = None
+        self.entries = None
+
+    def twin_survey(self):
+        """A survey that has found out the same, independent of this one."""
+        other = Survey(self.lore.base)
+        other.lore = self.lore.twin_lore()
+        other.deeds_seen = self.deeds_seen
+        if self.newest is not None:
+            other.newest = self.newest.twin_newest(other.lore)
+        other.stacks = {run: list(self.stacks[run]) for run in self.stacks}
+        other.outlooks = {run: list(self.outlooks[run]) for run in self.outlooks}
+        return other
+
+    def is_full(self):
+        """Tell whether so many texts were looked at that it is time to begin anew."""
+        return len(self.lore.sheets) > MOST_TEXTS
+
+    def look(self, parts, stacks):
+        """Look at the newest texts and the open calls."""
+        if self.newest is None or self.newest.parts != parts:
+            self.newest = self.newest_of(parts)
+            self.previews = {}
+            self.places = None
+            self.entries = None
+        if self.stacks != stacks:
+            self.look_at_stacks(stacks)
+            self.places = None
+            self.entries = None
+
+    def newest_of(self, parts):
+        """What is known of the newest texts of parts."""
+        self.lore.learn(list(parts.values()))
+        return Newest(parts, self.lore)
+
+    def look_at_stacks(self, stacks):
+        """Look at the open calls of the runs in which something has changed."""
+        changed = {run: list(stacks[run]) for run in stacks if self.stacks.get(run) != stacks[run]}
+        self.lore.learn([text for stack in changed.values() for text, stand in stack])
+        fresh = {run: self.lore.outlook(changed[run]) for run in changed}
+        self.stacks = {run: changed[run] if run in changed else self.stacks[run] for run in stacks}
+        self.outlooks = {run: fresh[run] if run in fresh else self.outlooks[run] for run in stacks}
+
+    def preview_of(self, name, text):
+        """What would be known of the newest texts if a part had the text."""
+        if (name, text) not in self.previews:
+            if len(self.previews) >= MOST_PREVIEWS:
+                self.previews = {}
+            self.previews[(name, text)] = self.newest_of({**self.newest.parts, name: text})
+        return self.previews[(name, text)]
+
+    def found_places(self):
+        """The places of the open calls, by runs."""
+        if self.places is None:
+            self.numbering = Numbering(self.newest)
+            self.places = {run: self.numbering.places_of(self.outlooks[run]) for run in self.outlooks}
+        return self.places
+
+    def found_entries(self):
+        """The kept classes."""
+        if self.entries is None:
+            self.found_places()
+            self.entries = self.numbering.kept_entries()
+        return self.entries

@@ -7,19 +7,24 @@ MUTE = (-1, 0, 0)
 SILENT = ("set", "if", "go")
 RECEIVING = ("ask", "read", "call")
 PASSING = ("say", "write")
+# Where the expression stands whose value the deed of a row tells; ask and read tell none.
+TOLD_AT = {"say": 1, "write": 2, "call": 2, "end": 1}
+
+
+def combine(sign, one, other, base):
+    """The sum, the difference or the product of two numbers."""
+    if sign == "+":
+        return (one + other) % base
+    if sign == "-":
+        return (one - other) % base
+    return (one * other) % base
 
 
 def value_of(expression, point, base):
     """Compute an expression with the variables of a point (row, x, y)."""
     if isinstance(expression, tuple):
         sign, left, right = expression
-        one = value_of(left, point, base)
-        other = value_of(right, point, base)
-        if sign == "+":
-            return (one + other) % base
-        if sign == "-":
-            return (one - other) % base
-        return (one * other) % base
+        return combine(sign, value_of(left, point, base), value_of(right, point, base), base)
     if expression == "x":
         return point[1]
     if expression == "y":
@@ -89,6 +94,19 @@ def check_stand(text, thing, base):
         raise NoStand()
 
 
+def told_expression(line):
+    """The expression whose value the deed of a row tells, 0 if the deed tells none."""
+    return line[TOLD_AT[line[0]]] if line[0] in TOLD_AT else 0
+
+
+def row_deed(line, value):
+    """The deed of a row that is not silent, with the value of the expression that it tells."""
+    if line[0] in TOLD_AT:
+        return line[:TOLD_AT[line[0]]] + (value,)
+    # A row that tells nothing is its deed and the variable that receives a number.
+    return line[:-1]
+
+
 def deed_at(text, stand, base):
     """The deed at a stand that is known to be one."""
     if stand == MUTE:
@@ -96,13 +114,7 @@ def deed_at(text, stand, base):
     if stand[0] == len(text):
         return ("end", 0)
     line = text[stand[0]]
-    if line[0] == "ask":
-        return ("ask",)
-    if line[0] == "read":
-        return ("read", line[1])
-    if line[0] == "write" or line[0] == "call":
-        return (line[0], line[1], value_of(line[2], stand, base))
-    return (line[0], value_of(line[1], stand, base))
+    return row_deed(line, value_of(told_expression(line), stand, base))
 
 
 def first_stand(text, argument, *, base=3):

@@ -41,7 +41,10 @@ def is_row(thing, rows, base):
     form = FORMS[thing[0]]
     if len(thing) != len(form) + 1:
         return False
-    return all([is_item(item, kind, rows, base) for item, kind in zip(thing[1:], form)])
+    for item, kind in zip(thing[1:], form):
+        if not is_item(item, kind, rows, base):
+            return False
+    return True
 
 
 def is_text(thing, *, base=3):
