@@ -85,23 +85,25 @@ class Lore:
     def tell_classes(self, waiting, numbers):
         """Number the classes of points that are given as (point, deed, targets)."""
         left = self.tell_straight(waiting, numbers)
-        while left and len(left) < len(waiting):
-            waiting = left
-            left = self.tell_straight(waiting, numbers)
         if left:
             self.tell_knots(left, numbers)
 
     def tell_straight(self, waiting, numbers):
-        """Number the classes of points all of whose branches lead to numbered ones; returns the other points."""
-        left = []
-        for entry in waiting:
+        """Number the classes of points from which no ring can be reached; returns the other points."""
+        # By points that are not numbered yet: what waits for them, each for one of its targets at a time.
+        blocked = {}
+        ready = waiting[::-1]
+        while ready:
+            entry = ready.pop()
             point, deed, targets = entry
             reached = tuple([numbers[target] for target in targets])
             if None in reached:
-                left.append(entry)
+                blocked.setdefault(targets[reached.index(None)], []).append(entry)
             else:
                 numbers[point] = self.class_of(deed, reached)
-        return left
+                if point in blocked:
+                    ready.extend(blocked.pop(point))
+        return [entry for entries in blocked.values() for entry in entries]
 
     def class_of(self, deed, reached):
         """The class with the deed and branches to the classes."""

@@ -216,7 +216,7 @@ class Wrong(HouseCase):
 
 
 class Time(HouseCase):
-    """The bounds are a third of what the same took when each question was answered anew, on a quick machine."""
+    """Each bound is at most a third of what the same took here when every question was answered anew."""
 
     def assert_seconds(self, most, function):
         start = time.perf_counter()
@@ -248,11 +248,11 @@ class Time(HouseCase):
                 h.kept()
                 h.preview("g", LOOP[:2] + (("end", 0),))
 
-        self.assert_seconds(0.2, ask)
+        self.assert_seconds(0.15, ask)
 
     def test_previews_of_many_texts(self):
         h = large_house()
-        self.assert_seconds(0.5, lambda: [h.preview("g", T[:3] + (("say", k % 4), ("say", k // 4 % 4), ("write", k // 16 % 2, k // 32)))
+        self.assert_seconds(0.45, lambda: [h.preview("g", T[:3] + (("say", k % 4), ("say", k // 4 % 4), ("write", k // 16 % 2, k // 32)))
                                           for k in range(100)])
 
     def test_a_house_and_its_twins(self):
@@ -300,7 +300,7 @@ class Time(HouseCase):
                     self.assertEqual(one.say(question), other.say(question))
                 self.assertTrue(one.house() == other.house())
 
-        self.assert_seconds(1.0, ask)
+        self.assert_seconds(0.9, ask)
 
 
 if __name__ == "__main__":
